@@ -1,0 +1,1 @@
+"""Rootfloor: sayings about whole numbers and floors of multiples by a root."""

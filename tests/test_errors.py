@@ -1,0 +1,95 @@
+"""Point 2 and the interface of errors: tags, attributes and base classes."""
+
+import ast
+import unittest
+from pathlib import Path
+
+from rootfloor import errors
+
+ROOT_ERRORS = {
+    "InvalidRoot": "given", "InvalidNumber": "given", "InvalidSlope": "given", "InvalidDigits": "index",
+    "InvalidVariables": "name", "InvalidSaying": "number", "InvalidText": None, "FieldsDiffer": None,
+    "FreeVariable": "name", "WrongCount": "name", "TooMany": "limit", "InvalidRow": "name", "NotSingle": None,
+    "Endless": None, "NotFunction": "name", "NoTurn": None, "InvalidName": "name", "DuplicateName": "name",
+    "CapacityExceeded": "limit", "InvalidCommand": "word", "InUse": "name", "InvalidLimit": "given",
+    "ParseError": "line",
+}
+MISSING = {"UnknownName": "name", "UnknownVariable": "name"}
+OTHERS = {"NothingLeft": None}
+ALL = {**ROOT_ERRORS, **MISSING, **OTHERS}
+# Subclasses that the document itself names, in modules that come later.
+NAMED_BASES = {("Reader", "Cursor"), ("LinePaper", "Paper"), ("ShadowPaper", "Paper")}
+PACKAGE = Path(__file__).resolve().parent.parent / "rootfloor"
+
+
+class ErrorTest(unittest.TestCase):
+    def test_attributes(self):
+        for name, attribute in ALL.items():
+            make = getattr(errors, name)
+            if attribute is None:
+                self.assertEqual(vars(make()), {"tag": name})
+                self.assertRaises(TypeError, make, 1)
+                continue
+            self.assertRaises(TypeError, make)
+            self.assertRaises(TypeError, make, 1, 2)
+            self.assertRaises(TypeError, make, unknown=1)
+            for value in (7, "word", None, (1, [2]), [3], True, 10 ** 5000, -1):
+                for error in (make(value), make(**{attribute: value})):
+                    self.assertEqual(vars(error), {"tag": name, attribute: value})
+                    self.assertIs(getattr(error, attribute), value)
+
+    def test_bases(self):
+        self.assertEqual(errors.RootError.__bases__, (ValueError,))
+        self.assertEqual(errors.Missing.__bases__, (LookupError,))
+        self.assertEqual(errors.NothingLeft.__bases__, (IndexError,))
+        for name in ROOT_ERRORS:
+            self.assertEqual(getattr(errors, name).__bases__, (errors.RootError,))
+        for name in MISSING:
+            self.assertEqual(getattr(errors, name).__bases__, (errors.Missing,))
+
+    def test_base_classes_have_no_tag(self):
+        for base in (errors.RootError, errors.Missing):
+            self.assertFalse(hasattr(base, "tag"))
+            self.assertFalse(hasattr(base("words"), "tag"))
+
+    def test_nothing_else_stands_there(self):
+        found = {name for name, value in vars(errors).items() if isinstance(value, type)}
+        self.assertEqual(found, {"RootError", "Missing", *ALL})
+        for name in found:
+            self.assertEqual(getattr(errors, name).__module__, "rootfloor.errors")
+
+    def test_caught_by_their_bases(self):
+        for name in ROOT_ERRORS:
+            with self.assertRaises(ValueError):
+                raise made(name)
+        for name in MISSING:
+            with self.assertRaises(LookupError):
+                raise made(name)
+            self.assertNotIsInstance(made(name), (KeyError, IndexError, ValueError))
+        with self.assertRaises(IndexError):
+            raise errors.NothingLeft()
+
+    def test_messages_can_be_written(self):
+        for name, attribute in ALL.items():
+            make = getattr(errors, name)
+            error = make() if attribute is None else make(10 ** 5000)
+            self.assertTrue(str(error))
+
+    def test_no_other_class_is_a_base_class(self):
+        for path in sorted(PACKAGE.rglob("*.py")):
+            for node in ast.walk(ast.parse(path.read_text(encoding="utf-8"))):
+                if not isinstance(node, ast.ClassDef):
+                    continue
+                for base in node.bases:
+                    word = ast.unparse(base)
+                    standard = word in ("ValueError", "LookupError", "IndexError", "RootError", "Missing")
+                    self.assertTrue(standard or (node.name, word) in NAMED_BASES, (path.name, node.name, word))
+
+
+def made(name):
+    make = getattr(errors, name)
+    return make() if ALL[name] is None else make(0)
+
+
+if __name__ == "__main__":
+    unittest.main()

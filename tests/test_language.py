@@ -1,0 +1,205 @@
+"""The form of the package: what can be told of ../shared/LANGUAGE.md and of the interface by reading the files."""
+
+import ast
+import importlib
+import inspect
+import unittest
+from pathlib import Path
+
+import rootfloor
+
+FOLDER = Path(rootfloor.__file__).resolve().parent
+LIBRARY = {
+    "heapq": {"heappush", "heappop", "heapify", "heapreplace", "heappushpop"},
+    "math": {"gcd", "lcm", "isqrt", "comb", "perm", "factorial"},
+    "itertools": {"product", "combinations", "permutations"},
+}
+BUILTINS = set(
+    "len range enumerate zip min max sum abs sorted reversed int str bool bytes list tuple dict set isinstance ord "
+    "repr any all divmod iter next map super property staticmethod classmethod NotImplemented Exception ValueError "
+    "TypeError KeyError IndexError LookupError ZeroDivisionError ArithmeticError OverflowError RuntimeError "
+    "NotImplementedError StopIteration".split()
+)
+NODES_LEFT_OUT = (
+    ast.Global, ast.AsyncFunctionDef, ast.AsyncFor, ast.AsyncWith, ast.Await, ast.Div, ast.MatMult, ast.MatchClass,
+    ast.MatchMapping,
+)
+WORDS_LEFT_OUT = {
+    "register", "mro", "elements", "open", "input", "law", "version_info", "with_traceback", "add_note", "exec",
+    "eval", "compile", "getattr", "setattr", "hasattr", "globals", "locals", "vars", "dir", "type", "id", "typing",
+}
+DOUBLE = set(
+    "init eq repr str len enter exit call iter lt le gt ge ne add sub mul floordiv mod pow and or xor lshift rshift "
+    "radd rsub rmul neg pos invert abs bool contains getitem setitem".split()
+)
+# What the interface lists: for each module its functions, and for each class its methods and properties.
+FUNCTIONS = {"surds": ("is_slope", "slope_text")}
+CLASSES = {
+    ("surds", "Surd"): {
+        "__init__": "root i j=0 * k=1", "of_slope": "root slope", "parts": "", "sign": "", "floor": "", "text": "",
+        "compared": "other", "__add__": "other", "__sub__": "other", "__mul__": "other", "__neg__": "",
+        "__eq__": "other", "__bool__": "", "__repr__": "", "root": None,
+    },
+    ("fields", "Field"): {
+        "__init__": "root", "part": "index", "step": "place", "tail": "place", "base": "", "digits": "number",
+        "value": "digits", "floor": "slope number", "__eq__": "other", "__repr__": "", "root": None, "period": None,
+        "top": None,
+    },
+}
+
+
+def files():
+    return sorted(FOLDER.rglob("*.py"))
+
+
+def trees():
+    for path in files():
+        yield path, ast.parse(path.read_text(encoding="utf-8"))
+
+
+def is_docstring_of(tree):
+    """The nodes of docstrings, in which words are free."""
+    found = set()
+    for node in ast.walk(tree):
+        if isinstance(node, (ast.Module, ast.ClassDef, ast.FunctionDef)) and ast.get_docstring(node) is not None:
+            found.add(node.body[0].value)
+    return found
+
+
+class FileTest(unittest.TestCase):
+    def test_only_plain_files(self):
+        for path in FOLDER.rglob("*"):
+            if "__pycache__" in path.parts:
+                continue
+            self.assertTrue(path.is_dir() or path.suffix == ".py", path)
+        self.assertTrue((FOLDER / "__init__.py").exists())
+
+    def test_characters_and_sizes(self):
+        for path in files():
+            text = path.read_bytes().decode("ascii")
+            self.assertTrue(all(sign == "\n" or " " <= sign <= "~" for sign in text), path)
+            self.assertLessEqual(len(text.splitlines()), 399)
+            self.assertTrue(all(len(line) <= 120 for line in text.splitlines()), path)
+
+    def test_sizes_of_functions(self):
+        for path, tree in trees():
+            for node in ast.walk(tree):
+                if isinstance(node, ast.FunctionDef):
+                    self.assertLessEqual(node.end_lineno - node.lineno + 1, 40, (path, node.name))
+
+
+class WordTest(unittest.TestCase):
+    def test_strings(self):
+        for path, tree in trees():
+            for node in ast.walk(tree):
+                if isinstance(node, ast.Constant) and isinstance(node.value, str):
+                    self.assertNotIn("%", node.value, path)
+                self.assertFalse(isinstance(node, ast.Constant) and isinstance(node.value, (float, complex)), path)
+
+    def test_statements(self):
+        for path, tree in trees():
+            for node in ast.walk(tree):
+                self.assertNotIsInstance(node, NODES_LEFT_OUT, path)
+                if isinstance(node, ast.FunctionDef):
+                    for decorator in node.decorator_list:
+                        word = ast.unparse(decorator)
+                        plain = word in ("property", "staticmethod", "classmethod")
+                        self.assertTrue(plain or word == f"{node.name}.setter", (path, word))
+
+    def test_names(self):
+        for path, tree in trees():
+            bound = {node.id for node in ast.walk(tree) if isinstance(node, ast.Name) and not is_read(node)}
+            bound |= {node.arg for node in ast.walk(tree) if isinstance(node, ast.arg)}
+            bound |= {node.name for node in ast.walk(tree) if isinstance(node, (ast.FunctionDef, ast.ClassDef))}
+            for node in ast.walk(tree):
+                if isinstance(node, ast.ImportFrom):
+                    bound |= {alias.asname or alias.name for alias in node.names}
+            self.assertFalse(bound & WORDS_LEFT_OUT, path)
+            self.assertFalse(bound & BUILTINS, path)
+            read = {node.id for node in ast.walk(tree) if isinstance(node, ast.Name) and is_read(node)}
+            self.assertEqual(read - bound - BUILTINS, set(), path)
+            double = {name.strip("_") for name in bound if name.startswith("__")}
+            self.assertEqual(double - DOUBLE, set(), path)
+
+    def test_words_in_strings(self):
+        for path, tree in trees():
+            free = is_docstring_of(tree)
+            for node in ast.walk(tree):
+                if isinstance(node, ast.Constant) and isinstance(node.value, str) and node not in free:
+                    self.assertNotIn("__", node.value, path)
+
+
+class ImportTest(unittest.TestCase):
+    def test_imports(self):
+        for path, tree in trees():
+            for node in ast.walk(tree):
+                self.assertNotIsInstance(node, ast.Import, path)
+                if not isinstance(node, ast.ImportFrom):
+                    continue
+                self.assertEqual(node.level, 0)
+                names = {alias.name for alias in node.names}
+                if node.module in LIBRARY:
+                    self.assertLessEqual(names, LIBRARY[node.module])
+                    continue
+                self.assertTrue(node.module.startswith("rootfloor."), (path, node.module))
+                self.assertLessEqual(names, defined_in(node.module), (path, node.module))
+
+    def test_no_circles(self):
+        below = {}
+        for path, tree in trees():
+            word = "rootfloor." + path.stem
+            below[word] = [node.module for node in ast.walk(tree) if isinstance(node, ast.ImportFrom)]
+        while below:
+            free = [word for word, needs in below.items() if not any(need in below for need in needs)]
+            self.assertTrue(free, below)
+            below = {word: needs for word, needs in below.items() if word not in free}
+
+
+class InterfaceTest(unittest.TestCase):
+    def test_functions(self):
+        for module, names in FUNCTIONS.items():
+            for name in names:
+                self.assertIn(name, defined_in(f"rootfloor.{module}"))
+
+    def test_methods_stand_in_their_classes(self):
+        for (module, name), methods in CLASSES.items():
+            self.assertIn(name, defined_in(f"rootfloor.{module}"))
+            own = vars(getattr(importlib.import_module(f"rootfloor.{module}"), name))
+            for method, parameters in methods.items():
+                self.assertIn(method, own)
+                if parameters is None:
+                    self.assertIsInstance(own[method], property)
+                else:
+                    self.assertEqual(parameters_of(own[method]), parameters, (name, method))
+
+
+def parameters_of(method):
+    """The parameters without the first one of a method, as the interface writes them."""
+    static = isinstance(method, staticmethod)
+    found = list(inspect.signature(method.__func__ if static else method).parameters.values())
+    words, starred = [], False
+    for parameter in found if static else found[1:]:
+        if parameter.kind == parameter.KEYWORD_ONLY and not starred:
+            words.append("*")
+            starred = True
+        words.append(str(parameter))
+    return " ".join(words)
+
+
+def is_read(node):
+    return isinstance(node.ctx, ast.Load)
+
+
+def defined_in(module):
+    path = FOLDER.parent / (module.replace(".", "/") + ".py")
+    found = set()
+    for node in ast.parse(path.read_text(encoding="utf-8")).body:
+        if isinstance(node, (ast.FunctionDef, ast.ClassDef)):
+            found.add(node.name)
+        if isinstance(node, ast.Assign):
+            found |= {target.id for target in node.targets}
+    return found
+
+
+if __name__ == "__main__":
+    unittest.main()
