@@ -2,7 +2,7 @@
 
 from rootfloor.errors import InvalidDigits, InvalidNumber, InvalidRoot, InvalidSlope
 from rootfloor.kinds import PERIODS, is_between, is_number, is_root
-from rootfloor.surds import Surd, is_slope
+from rootfloor.surds import Surd, floor_of, is_slope
 
 MOST_PLACE = 1000
 TAILS = {
@@ -80,7 +80,7 @@ class Field:
         before, here = 0, 1
         lower = 0
         for place, digit in enumerate(digits):
-            if not _can_stand(self._period, place, digit, lower):
+            if not can_stand(self._period, place, digit, lower):
                 raise InvalidDigits(place)
             total = total + digit * here
             before, here = here, _part_above(self._period, place) * here + before
@@ -93,8 +93,7 @@ class Field:
             raise InvalidSlope(slope)
         if not is_number(number):
             raise InvalidNumber(number)
-        i, j, k = slope
-        return Surd(self._root, i * number, j * number, k=k).floor()
+        return floor_of(self._root, slope, number)
 
     def __eq__(self, other):
         return isinstance(other, Field) and self._root == other._root
@@ -119,7 +118,7 @@ def _steps_within(period, number):
     return steps
 
 
-def _can_stand(period, place, digit, lower):
+def can_stand(period, place, digit, lower):
     """Whether any value can be the digit at a place above a lower digit."""
     most = _part_above(period, place)
     if place == 0 or lower != 0:

@@ -1,6 +1,8 @@
-"""What the modules ask of single values: whether they are integers, numbers or roots."""
+"""What the modules ask of single values: whether they are integers, numbers, roots, variables or names."""
 
 PERIODS = {2: (2,), 3: (1, 2), 5: (1,), 6: (2, 4), 13: (3,)}
+NO_VARIABLES = ("all", "and", "not", "or", "r")
+NO_NAMES = ("some", "floor", "under", "leaves")
 
 
 def is_whole(value):
@@ -21,3 +23,22 @@ def is_number(value):
 def is_root(value):
     """Whether any value is the root of a field."""
     return is_whole(value) and value in PERIODS
+
+
+def is_variable(value):
+    """Whether any value is a variable."""
+    return _is_word(value, 1, 3) and value not in NO_VARIABLES
+
+
+def is_name(value):
+    """Whether any value is a name, as uses have it."""
+    return _is_word(value, 4, 8) and value not in NO_NAMES
+
+
+def _is_word(value, low, high):
+    return isinstance(value, str) and low <= len(value) <= high and all([is_letter(sign) for sign in value])
+
+
+def is_letter(sign):
+    """Whether a sign is a lowercase letter of the words."""
+    return "a" <= sign <= "z"

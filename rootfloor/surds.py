@@ -152,3 +152,9 @@ class Surd:
 
     def __repr__(self):
         return f"Surd({self.text()}, root {self._root})"
+
+
+def floor_of(root, slope, whole):
+    """The floor of a slope times any integer."""
+    i, j, k = slope
+    return Surd(root, i * whole, j * whole, k=k).floor()

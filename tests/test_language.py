@@ -33,7 +33,15 @@ DOUBLE = set(
     "radd rsub rmul neg pos invert abs bool contains getitem setitem".split()
 )
 # What the interface lists: for each module its functions, and for each class its methods and properties.
-FUNCTIONS = {"surds": ("is_slope", "slope_text")}
+FUNCTIONS = {
+    "surds": {"is_slope": "value", "slope_text": "slope"},
+    "carrying": {"is_kept": "field factors pair place", "carried": "field factors constant letters"},
+    "sayings": {
+        "is_term": "value", "is_saying": "value", "check_saying": "value", "parts_of": "saying",
+        "free_variables": "saying", "used_names": "saying", "term_value": "field term values",
+    },
+    "texts": {"term_text": "term", "saying_text": "saying", "read_term": "text", "read_saying": "text"},
+}
 CLASSES = {
     ("surds", "Surd"): {
         "__init__": "root i j=0 * k=1", "of_slope": "root slope", "parts": "", "sign": "", "floor": "", "text": "",
@@ -44,6 +52,13 @@ CLASSES = {
         "__init__": "root", "part": "index", "step": "place", "tail": "place", "base": "", "digits": "number",
         "value": "digits", "floor": "slope number", "__eq__": "other", "__repr__": "", "root": None, "period": None,
         "top": None,
+    },
+    ("machines", "Machine"): {
+        "everything": "field *names", "nothing": "field *names", "field": None, "names": "", "rows": "", "answers": "",
+        "digits_of": "index", "is_true": "values", "__contains__": "values", "holds": "**numbers", "__and__": "other",
+        "__or__": "other", "__sub__": "other", "__invert__": "", "within": "other", "some": "name", "every": "name",
+        "fixed": "**numbers", "renamed": "**names", "widened": "*names", "__eq__": "other", "__len__": "",
+        "__bool__": "", "__repr__": "",
     },
 }
 
@@ -129,6 +144,51 @@ class WordTest(unittest.TestCase):
                     self.assertNotIn("__", node.value, path)
 
 
+class OperatorTest(unittest.TestCase):
+    """The rules of L5 for what operators run, kept in all files so far, since operators run most of them."""
+
+    def test_no_sorting_in_place(self):
+        for path, tree in trees():
+            for node in ast.walk(tree):
+                self.assertFalse(isinstance(node, ast.Attribute) and node.attr == "sort", path)
+
+    def test_no_generator_expressions(self):
+        for path, tree in trees():
+            self.assertFalse(any(isinstance(node, ast.GeneratorExp) for node in ast.walk(tree)), path)
+
+    def test_literal_steps(self):
+        for path, tree in trees():
+            for node in ast.walk(tree):
+                if isinstance(node, ast.AugAssign):
+                    self.assertTrue(isinstance(node.target, ast.Name) and isinstance(node.value, ast.Constant), path)
+
+    def test_only_own_lists_are_changed(self):
+        words = {"append", "extend", "insert", "pop", "remove", "clear", "setdefault", "update", "reverse", "add"}
+        for path, tree in trees():
+            for function in (node for node in ast.walk(tree) if isinstance(node, ast.FunctionDef)):
+                made = made_in(function)
+                for node in ast.walk(function):
+                    if isinstance(node, ast.Attribute) and node.attr in words:
+                        self.assertIn(ast.unparse(node.value), made, (path, function.name))
+                    if isinstance(node, ast.Subscript) and not is_read(node):
+                        self.assertIn(ast.unparse(node.value), made, (path, function.name))
+                    if isinstance(node, ast.Attribute) and not is_read(node):
+                        plain = function.name == "__init__" and ast.unparse(node.value) == "self"
+                        self.assertTrue(plain, (path, function.name))
+
+
+def made_in(function):
+    """The variables to which a function assigns a list or a dict that it makes on the spot."""
+    made = set()
+    for node in ast.walk(function):
+        if isinstance(node, ast.Assign) and len(node.targets) == 1 and isinstance(node.targets[0], ast.Name):
+            value = node.value
+            called = isinstance(value, ast.Call) and ast.unparse(value.func) in ("list", "dict", "sorted")
+            if called or isinstance(value, (ast.List, ast.Dict, ast.ListComp)):
+                made.add(node.targets[0].id)
+    return made
+
+
 class ImportTest(unittest.TestCase):
     def test_imports(self):
         for path, tree in trees():
@@ -158,8 +218,10 @@ class ImportTest(unittest.TestCase):
 class InterfaceTest(unittest.TestCase):
     def test_functions(self):
         for module, names in FUNCTIONS.items():
-            for name in names:
+            for name, parameters in names.items():
                 self.assertIn(name, defined_in(f"rootfloor.{module}"))
+                call = getattr(importlib.import_module(f"rootfloor.{module}"), name)
+                self.assertEqual(" ".join(map(str, inspect.signature(call).parameters.values())), parameters)
 
     def test_methods_stand_in_their_classes(self):
         for (module, name), methods in CLASSES.items():
