@@ -67,12 +67,7 @@ class Field:
         """The list of the digits of a number, the least place first, without zeros at its end."""
         if not is_number(number):
             raise InvalidNumber(number)
-        found = []
-        rest = number
-        for step in reversed(_steps_within(self._period, number)):
-            digit, rest = divmod(rest, step)
-            found.append(digit)
-        return found[::-1]
+        return digits_in(self._period, number)
 
     def value(self, digits):
         """The number with a list of digits."""
@@ -105,6 +100,16 @@ class Field:
 def _part_above(period, place):
     """a(place + 1), the part that bounds the digit at a place."""
     return period[place % len(period)]
+
+
+def digits_in(period, number):
+    """The list of the digits of a number of any size, the least place first, without zeros at its end."""
+    found = []
+    rest = number
+    for step in reversed(_steps_within(period, number)):
+        digit, rest = divmod(rest, step)
+        found.append(digit)
+    return found[::-1]
 
 
 def _steps_within(period, number):

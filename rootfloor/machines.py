@@ -1,6 +1,7 @@
 """Machines: finite machines that read the digits of numbers, the least place first."""
 
 from rootfloor.errors import FieldsDiffer, InvalidNumber, InvalidRow, InvalidVariables, UnknownVariable
+from rootfloor.fields import digits_in
 from rootfloor.kinds import is_between, is_number, is_variable
 from rootfloor.letters import letters_of, spread, sums_by_place, weights_of
 from rootfloor.pins import pinned
@@ -105,6 +106,10 @@ class Machine:
         for name in numbers:
             if not is_number(numbers[name]):
                 raise InvalidNumber(numbers[name])
+        return self.with_numbers(numbers)
+
+    def with_numbers(self, numbers):
+        """The machine without the names of a dict, with numbers of any size in their places."""
         others = [name for name in self._names if name not in numbers]
         weights = self._weights()
         starts = spread(self._base(), [weights[name] for name in others])
@@ -146,7 +151,7 @@ class Machine:
     def _letters_by_place(self, values, names):
         """For each place the number of the letter with the digits of these names, and zeros for the others."""
         weights = self._weights()
-        digits = [self._field.digits(values[name]) for name in names]
+        digits = [digits_in(self._field.period, values[name]) for name in names]
         return sums_by_place(digits, [weights[name] for name in names])
 
     def _joint_names(self, other):

@@ -1,6 +1,6 @@
 """Terms and sayings: their forms, parts, variables and names, and the values of terms."""
 
-from rootfloor.errors import InvalidRow, InvalidSaying
+from rootfloor.errors import InvalidRow, InvalidSaying, UnknownName, WrongCount
 from rootfloor.kinds import is_between, is_name, is_number, is_variable
 from rootfloor.surds import floor_of, is_slope
 
@@ -165,6 +165,16 @@ def used_names(saying):
     """The list of the names of uses, in the order of the parts, each name once."""
     names = {part[1]: True for part in parts_of(saying) if part[0] == "use"}
     return list(names)
+
+
+def check_uses(saying, counts):
+    """Raises the error of the first use whose name is not in a dict, or that has not the number of variables there."""
+    for part in parts_of(saying):
+        if part[0] == "use":
+            if part[1] not in counts:
+                raise UnknownName(part[1])
+            if len(part[2]) != counts[part[1]]:
+                raise WrongCount(part[1])
 
 
 def term_variables(term):

@@ -2,6 +2,7 @@
 
 from functools import lru_cache
 from itertools import count, product
+from math import isqrt
 from random import Random
 
 from rootfloor.carrying import carried
@@ -383,3 +384,57 @@ def first_misbound(saying):
         if part[0] in ("some", "all") and part[1] in free | set(around):
             return number
     return None
+
+
+def floor_at(root, slope, whole):
+    """The floor of a slope times an integer."""
+    i, j, k = slope
+    size = isqrt(root * j * j * whole * whole)
+    if j * whole < 0:
+        size = -size - (size * size != root * j * j * whole * whole)
+    return (i * whole + size) // k
+
+
+def worth(root, term, row):
+    """The value of a term."""
+    total = term[1]
+    for factor, thing in term[0]:
+        here = row[thing] if isinstance(thing, str) else floor_at(root, thing[1], worth(root, thing[2], row))
+        total += factor * here
+    return total
+
+
+def truth(root, saying, row, bound=0, uses=None):
+    """Whether a saying holds for a row, if the numbers below a bound are enough; uses are functions by the names."""
+    word = saying[0]
+    if word == "equal":
+        return worth(root, saying[1], row) == worth(root, saying[2], row)
+    if word == "less":
+        return worth(root, saying[1], row) < worth(root, saying[2], row)
+    if word == "under":
+        i, j, k = saying[2]
+        one, other = worth(root, saying[1], row), worth(root, saying[3], row)
+        # k t - i u < j r u
+        return square(k * one - i * other) < square(j * other) * root
+    if word == "leaves":
+        return worth(root, saying[1], row) % saying[2] == saying[3]
+    if word == "use":
+        return uses[saying[1]](*(row[name] for name in saying[2]))
+    if word == "not":
+        return not truth(root, saying[1], row, bound, uses)
+    if word in ("some", "all"):
+        found = (truth(root, saying[2], {**row, saying[1]: number}, bound, uses) for number in range(bound))
+        return any(found) if word == "some" else all(found)
+    found = (truth(root, part, row, bound, uses) for part in saying[1:])
+    return all(found) if word == "and" else any(found)
+
+
+def near_rows(random, names, many, figures=30):
+    """Rows of small, near and great numbers."""
+    for _ in range(many):
+        start = any_number(random, figures)
+        yield {
+            name: random.choice((random.randint(0, 12), max(0, start + random.randint(-9, 9)), any_number(random, figures),
+                                 2 * start, start // 2, start // 3))
+            for name in names
+        }

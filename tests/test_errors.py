@@ -4,7 +4,14 @@ import ast
 import unittest
 from pathlib import Path
 
+from helpers import raised
 from rootfloor import errors
+from rootfloor.answering import decide, example, value_of
+from rootfloor.compiling import compiled, floor_machine
+from rootfloor.fields import Field
+from rootfloor.listing import Cursor, total
+from rootfloor.machines import Machine
+from rootfloor.texts import read_saying
 
 ROOT_ERRORS = {
     "InvalidRoot": "given", "InvalidNumber": "given", "InvalidSlope": "given", "InvalidDigits": "index",
@@ -74,6 +81,28 @@ class ErrorTest(unittest.TestCase):
             make = getattr(errors, name)
             error = make() if attribute is None else make(10 ** 5000)
             self.assertTrue(str(error))
+
+    def test_errors_of_calls(self):
+        field, strange = Field(5), Field(2)
+        saying, other = read_saying("x < y"), read_saying("even(x)")
+        machine, single = compiled(field, saying), compiled(field, read_saying("x < 9"))
+        for kind, value, call in (
+            ("InvalidRoot", 4, lambda: Field(4)), ("InvalidNumber", -1, lambda: field.digits(-1)),
+            ("InvalidSlope", (1, 2), lambda: floor_machine(field, (1, 2))), ("InvalidDigits", 1, lambda: field.value([0, 7])),
+            ("InvalidVariables", "R", lambda: machine.widened("R")), ("InvalidSaying", 0, lambda: compiled(field, None)),
+            ("InvalidText", None, lambda: read_saying("x")),
+            ("FieldsDiffer", None, lambda: machine & Machine.everything(strange)),
+            ("FreeVariable", "x", lambda: decide(field, saying)),
+            ("WrongCount", "even", lambda: decide(field, other, known={"even": ((), Machine.nothing(field))})),
+            ("TooMany", 1, lambda: compiled(field, saying, limit=1)), ("InvalidRow", "y", lambda: machine.holds(x=1)),
+            ("NotSingle", None, lambda: total(machine)), ("Endless", None, lambda: total(~single)),
+            ("NotFunction", "y", lambda: value_of(machine, "y", {"x": 1})),
+            ("NoTurn", None, lambda: example(field, read_saying("1 = 1"))), ("UnknownName", "even", lambda: decide(field, other)),
+            ("UnknownVariable", "z", lambda: machine.some("z")), ("NothingLeft", None, lambda: Cursor(single).forward(10)),
+        ):
+            error = raised(call)
+            wanted = {"tag": kind} if value is None and ALL[kind] is None else {"tag": kind, ALL[kind]: value}
+            self.assertEqual((type(error), vars(error)), (getattr(errors, kind), wanted))
 
     def test_no_other_class_is_a_base_class(self):
         for path in sorted(PACKAGE.rglob("*.py")):

@@ -41,6 +41,19 @@ FUNCTIONS = {
         "free_variables": "saying", "used_names": "saying", "term_value": "field term values",
     },
     "texts": {"term_text": "term", "saying_text": "saying", "read_term": "text", "read_saying": "text"},
+    "compiling": {
+        "compiled": "field saying * names=None known=None limit=20000", "floor_machine": "field slope",
+    },
+    "listing": {
+        "numbers": "machine * start=0", "number_at": "machine index", "count_below": "machine bound",
+        "is_endless": "machine", "total": "machine", "greatest": "machine", "gaps": "machine", "least_row": "machine",
+    },
+    "answering": {
+        "decide": "field saying * known=None", "example": "field saying * known=None",
+        "against": "field saying * known=None", "reply": "field saying values * known=None",
+        "alike": "field *sayings known=None", "parting": "field one other * known=None",
+        "is_function": "machine name", "value_of": "machine name values",
+    },
 }
 CLASSES = {
     ("surds", "Surd"): {
@@ -60,16 +73,28 @@ CLASSES = {
         "fixed": "**numbers", "renamed": "**names", "widened": "*names", "__eq__": "other", "__len__": "",
         "__bool__": "", "__repr__": "",
     },
+    ("listing", "Cursor"): {
+        "__init__": "machine * position=0", "place": None, "position": None, "move_to": "position",
+        "forward": "many=1", "back": "many=1", "seek": "number", "twin": "", "__len__": "", "__repr__": "",
+    },
+    ("listing", "Reader"): {
+        "__init__": "machine * position=0", "seen": "", "forward": "many=1", "twin": "", "forget": "",
+    },
 }
+# The files with what operators and properties run.
+RUN_BY_OPERATORS = (
+    "carrying", "errors", "fields", "kinds", "letters", "machines", "pins", "rooms", "shadows", "surds", "tables",
+)
 
 
 def files():
     return sorted(FOLDER.rglob("*.py"))
 
 
-def trees():
+def trees(words=None):
     for path in files():
-        yield path, ast.parse(path.read_text(encoding="utf-8"))
+        if words is None or path.stem in words:
+            yield path, ast.parse(path.read_text(encoding="utf-8"))
 
 
 def is_docstring_of(tree):
@@ -145,7 +170,7 @@ class WordTest(unittest.TestCase):
 
 
 class OperatorTest(unittest.TestCase):
-    """The rules of L5 for what operators run, kept in all files so far, since operators run most of them."""
+    """The rules of L5 for what operators and properties run, kept in whole files."""
 
     def test_no_sorting_in_place(self):
         for path, tree in trees():
@@ -157,14 +182,14 @@ class OperatorTest(unittest.TestCase):
             self.assertFalse(any(isinstance(node, ast.GeneratorExp) for node in ast.walk(tree)), path)
 
     def test_literal_steps(self):
-        for path, tree in trees():
+        for path, tree in trees(RUN_BY_OPERATORS):
             for node in ast.walk(tree):
                 if isinstance(node, ast.AugAssign):
                     self.assertTrue(isinstance(node.target, ast.Name) and isinstance(node.value, ast.Constant), path)
 
     def test_only_own_lists_are_changed(self):
         words = {"append", "extend", "insert", "pop", "remove", "clear", "setdefault", "update", "reverse", "add"}
-        for path, tree in trees():
+        for path, tree in trees(RUN_BY_OPERATORS):
             for function in (node for node in ast.walk(tree) if isinstance(node, ast.FunctionDef)):
                 made = made_in(function)
                 for node in ast.walk(function):
@@ -204,6 +229,13 @@ class ImportTest(unittest.TestCase):
                 self.assertTrue(node.module.startswith("rootfloor."), (path, node.module))
                 self.assertLessEqual(names, defined_in(node.module), (path, node.module))
 
+    def test_operators_run_only_what_they_may(self):
+        # What these files import is among them, so no operator runs anything else.
+        for path, tree in trees(RUN_BY_OPERATORS):
+            for node in ast.walk(tree):
+                if isinstance(node, ast.ImportFrom) and node.module.startswith("rootfloor."):
+                    self.assertIn(node.module.split(".")[1], RUN_BY_OPERATORS, path)
+
     def test_no_circles(self):
         below = {}
         for path, tree in trees():
@@ -215,13 +247,34 @@ class ImportTest(unittest.TestCase):
             below = {word: needs for word, needs in below.items() if word not in free}
 
 
+    def test_no_clock_no_randomness_no_files(self):
+        # Nothing is imported but the package and single functions of the library, and no builtin reaches outside.
+        for path, tree in trees():
+            for node in ast.walk(tree):
+                if isinstance(node, ast.ImportFrom) and not node.module.startswith("rootfloor."):
+                    self.assertIn(node.module, LIBRARY, path)
+                if isinstance(node, ast.Name):
+                    self.assertNotIn(node.id, ("open", "input", "print", "exec", "eval", "hash", "id", "vars"), path)
+
+    def test_stars_in_calls(self):
+        # L7: behind a star stand names, attributes off a name, literals, and lists and tuples of these.
+        for path, tree in trees():
+            for call in (node for node in ast.walk(tree) if isinstance(node, ast.Call)):
+                for item in call.args:
+                    if isinstance(item, ast.Starred):
+                        self.assertIsInstance(item.value, (ast.Name, ast.Attribute), (path, call.lineno))
+                for keyword in call.keywords:
+                    if keyword.arg is None:
+                        self.assertIsInstance(keyword.value, (ast.Name, ast.Attribute), (path, call.lineno))
+
+
 class InterfaceTest(unittest.TestCase):
     def test_functions(self):
         for module, names in FUNCTIONS.items():
             for name, parameters in names.items():
                 self.assertIn(name, defined_in(f"rootfloor.{module}"))
                 call = getattr(importlib.import_module(f"rootfloor.{module}"), name)
-                self.assertEqual(" ".join(map(str, inspect.signature(call).parameters.values())), parameters)
+                self.assertEqual(parameters_of(staticmethod(call)), parameters)
 
     def test_methods_stand_in_their_classes(self):
         for (module, name), methods in CLASSES.items():
@@ -243,7 +296,7 @@ def parameters_of(method):
     for parameter in found if static else found[1:]:
         if parameter.kind == parameter.KEYWORD_ONLY and not starred:
             words.append("*")
-            starred = True
+        starred = starred or parameter.kind in (parameter.KEYWORD_ONLY, parameter.VAR_POSITIONAL)
         words.append(str(parameter))
     return " ".join(words)
 
