@@ -27,6 +27,13 @@ def spread(base, weights):
     return sums
 
 
+def picks_without(base, names, name):
+    """For each digit of a name the list of the numbers of the letters with it, by the letters of the other names."""
+    weights = weights_of(base, names)
+    starts = spread(base, [weights[other] for other in names if other != name])
+    return [[start + digit * weights[name] for start in starts] for digit in range(base)]
+
+
 def sums_by_place(rows, weights):
     """For each place the sum of the digits there, each times the weight of its list of digits."""
     places = max([len(digits) for digits in rows], default=0)

@@ -3,7 +3,7 @@
 from rootfloor.errors import FieldsDiffer, InvalidNumber, InvalidRow, InvalidVariables, UnknownVariable
 from rootfloor.fields import digits_in
 from rootfloor.kinds import is_between, is_number, is_variable
-from rootfloor.letters import letters_of, spread, sums_by_place, weights_of
+from rootfloor.letters import letters_of, picks_without, spread, sums_by_place, weights_of
 from rootfloor.pins import pinned
 from rootfloor.rooms import least_table
 from rootfloor.shadows import shadow_lines
@@ -84,10 +84,7 @@ class Machine:
         if name not in self._names:
             raise UnknownVariable(name)
         others = [other for other in self._names if other != name]
-        weights = self._weights()
-        starts = spread(self._base(), [weights[other] for other in others])
-        picks = [[start + digit * weights[name] for start in starts] for digit in range(self._base())]
-        lines = shadow_lines(self._rows, self._answers, picks)
+        lines = shadow_lines(self._rows, self._answers, picks_without(self._base(), self._names, name))
         rows = [goals for rooms, goals, rank in lines]
         return Machine(self._field, others, rows, [rank is not None for rooms, goals, rank in lines])
 

@@ -8,6 +8,34 @@ EXACT = (0, 0)
 MORE = (1, 0)
 
 
+class Strip:
+    """The pairs (u, v) with u - v z(i) in a range, a pair of surds for each rest by the length of the period."""
+
+    def __init__(self, field, ranges):
+        self._field = field
+        self._ranges = list(ranges)
+        self._spans = [{} for _ in ranges]
+
+    def is_kept(self, u, v, rest):
+        """Whether a pair lies in the range at the places with a rest."""
+        span = self._spans[rest].get(v)
+        if span is None:
+            low, high = self._ranges[rest]
+            shift = Surd(self._field.root, v) * self._field.tail(rest)
+            span = (_ceiling(low + shift), (high + shift).floor())
+            self._spans[rest][v] = span
+        return span[0] <= u <= span[1]
+
+    def pairs_with(self, u):
+        """The list of the pairs with a given u in the range at the place 0."""
+        low, high = self._ranges[0]
+        above = Surd(self._field.root, u)
+        # 1 / z(0) is b.
+        least = _ceiling((above - high) * self._field.base())
+        greatest = ((above - low) * self._field.base()).floor()
+        return [(u, v) for v in range(least, greatest + 1)]
+
+
 class Reckoning:
     """The sets of carried pairs of an equation, each with a number; the set 0 is empty.
 
@@ -28,12 +56,12 @@ class Reckoning:
             self._rows, self._answers = least_table(rows, answers)
             pairs.append((1, 0))
         self._lost = hopeless(self._rows, self._answers)
-        self._ranges = [range_at(field, pairs, rest) for rest in range(len(field.period))]
-        self._spans = [{} for _ in field.period]
+        self._strip = Strip(field, [range_at(field, pairs, rest) for rest in range(len(field.period))])
         self._sets = [()]
         self._numbers = {(): 0}
         self._goals = {}
-        self._first = self._number({(u, v, 0): True for u, v in self._first_pairs(constant)})
+        pairs = [(-constant % modulus, v) for v in range(modulus)] if modulus else self._strip.pairs_with(-constant)
+        self._first = self._number([(u, v, 0) for u, v in pairs])
 
     def first(self):
         """The number of the set at the beginning."""
@@ -67,37 +95,14 @@ class Reckoning:
             one = v - shift
             total = u - near - part * one
             for digit, goal in enumerate(self._rows[room]):
-                if goal != self._lost and self._is_kept(one, total - digit, after):
-                    found[self._reduced(one, total - digit, goal)] = True
+                other = total - digit
+                if goal == self._lost:
+                    continue
+                if self._modulus:
+                    found[(one % self._modulus, other % self._modulus, goal)] = True
+                elif self._strip.is_kept(one, other, after):
+                    found[(one, other, goal)] = True
         return found
-
-    def _reduced(self, u, v, room):
-        if self._modulus:
-            return u % self._modulus, v % self._modulus, room
-        return u, v, room
-
-    def _is_kept(self, u, v, rest):
-        """Whether the pair can still lead to (0, 0)."""
-        if self._modulus:
-            return True
-        span = self._spans[rest].get(v)
-        if span is None:
-            low, high = self._ranges[rest]
-            shift = Surd(self._field.root, v) * self._field.tail(rest)
-            span = (_ceiling(low + shift), (high + shift).floor())
-            self._spans[rest][v] = span
-        return span[0] <= u <= span[1]
-
-    def _first_pairs(self, constant):
-        """The list of the pairs at the place 0."""
-        if self._modulus:
-            return [(-constant % self._modulus, v) for v in range(self._modulus)]
-        low, high = self._ranges[0]
-        above = Surd(self._field.root, -constant)
-        # 1 / z(0) is b.
-        least = _ceiling((above - high) * self._field.base())
-        greatest = ((above - low) * self._field.base()).floor()
-        return [(-constant, v) for v in range(least, greatest + 1)]
 
 
 def range_at(field, pairs, rest):

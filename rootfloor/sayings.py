@@ -167,6 +167,14 @@ def used_names(saying):
     return list(names)
 
 
+def with_names(saying, names):
+    """The saying with other names of uses, by a dict from the old ones."""
+    if saying[0] == "use":
+        return "use", names.get(saying[1], saying[1]), saying[2]
+    inner = _inner(saying)
+    return *saying[:len(saying) - len(inner)], *[with_names(part, names) for part in inner]
+
+
 def check_uses(saying, counts):
     """Raises the error of the first use whose name is not in a dict, or that has not the number of variables there."""
     for part in parts_of(saying):

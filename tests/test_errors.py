@@ -7,10 +7,12 @@ from pathlib import Path
 from helpers import raised
 from rootfloor import errors
 from rootfloor.answering import decide, example, value_of
+from rootfloor.books import Book
 from rootfloor.compiling import compiled, floor_machine
 from rootfloor.fields import Field
 from rootfloor.listing import Cursor, total
 from rootfloor.machines import Machine
+from rootfloor.pages import read_book
 from rootfloor.texts import read_saying
 
 ROOT_ERRORS = {
@@ -85,6 +87,8 @@ class ErrorTest(unittest.TestCase):
     def test_errors_of_calls(self):
         field, strange = Field(5), Field(2)
         saying, other = read_saying("x < y"), read_saying("even(x)")
+        book = Book(field, limit=2)
+        book.apply(("define", "pair", ("x", "y"), saying), ("define", "swap", ("x", "y"), read_saying("pair(y, x)")))
         machine, single = compiled(field, saying), compiled(field, read_saying("x < 9"))
         for kind, value, call in (
             ("InvalidRoot", 4, lambda: Field(4)), ("InvalidNumber", -1, lambda: field.digits(-1)),
@@ -99,6 +103,12 @@ class ErrorTest(unittest.TestCase):
             ("NotFunction", "y", lambda: value_of(machine, "y", {"x": 1})),
             ("NoTurn", None, lambda: example(field, read_saying("1 = 1"))), ("UnknownName", "even", lambda: decide(field, other)),
             ("UnknownVariable", "z", lambda: machine.some("z")), ("NothingLeft", None, lambda: Cursor(single).forward(10)),
+            ("InvalidName", "x", lambda: book.apply(("define", "x", (), None))),
+            ("DuplicateName", "pair", lambda: book.apply(("rename", "pair", "pair"))),
+            ("CapacityExceeded", 2, lambda: book.apply(("define", "third", (), None))),
+            ("InvalidCommand", "pair", lambda: book.apply(["pair"])), ("InUse", "swap", lambda: book.apply(("drop", "pair"))),
+            ("InvalidLimit", 1, lambda: book.set_limit(1)), ("ParseError", 1, lambda: read_book("root 5\nx")),
+            ("NothingLeft", None, lambda: book.redo()), ("UnknownName", "strange", lambda: book.machine("strange")),
         ):
             error = raised(call)
             wanted = {"tag": kind} if value is None and ALL[kind] is None else {"tag": kind, ALL[kind]: value}

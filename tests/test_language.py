@@ -54,6 +54,9 @@ FUNCTIONS = {
         "alike": "field *sayings known=None", "parting": "field one other * known=None",
         "is_function": "machine name", "value_of": "machine name values",
     },
+    "beats": {"beat": "field slope start many", "standing": "field slope row"},
+    "papers": {"line_paper": "field factors constant", "shadow_paper": "machine name"},
+    "pages": {"write_book": "book", "read_book": "text", "table": "machine * most=10"},
 }
 CLASSES = {
     ("surds", "Surd"): {
@@ -79,6 +82,15 @@ CLASSES = {
     },
     ("listing", "Reader"): {
         "__init__": "machine * position=0", "seen": "", "forward": "many=1", "twin": "", "forget": "",
+    },
+    ("papers", "Paper"): {"__init__": "lines", "lines": "", "told": "", "holds": ""},
+    ("papers", "LinePaper"): {"__init__": "field factors constant lines", "told": "", "holds": "", "machine": ""},
+    ("papers", "ShadowPaper"): {"__init__": "inner name lines", "told": "", "holds": "", "machine": ""},
+    ("books", "Book"): {
+        "__init__": "field * limit=12", "field": None, "limit": None, "set_limit": "value", "apply": "*commands",
+        "undo": "", "redo": "", "history": "", "busy": None, "names": "", "variables": "name", "saying": "name",
+        "users": "name", "machine": "name", "holds": "name *numbers", "kept": "", "computed": None, "twin": "",
+        "__contains__": "name", "__len__": "", "__eq__": "other", "__repr__": "",
     },
 }
 # The files with what operators and properties run.
