@@ -74,7 +74,6 @@ def parting(field, one, other, *, known=None):
     """The least row for which exactly one of two sayings holds, or None."""
     first = _compiler_for(field, one, known).machine(one)
     second = _compiler_for(field, other, known).machine(other)
-    _joint_names(first, second)
     return least_row(first - second | second - first)
 
 

@@ -4,7 +4,7 @@ from rootfloor.machines import MOST_NAMES
 from rootfloor.reckonings import EXACT, MORE
 from rootfloor.sayings import free_variables, term_variables
 from rootfloor.sizes import sign_of, size_machine
-from rootfloor.sums import joint_without, sum_machine
+from rootfloor.sums import any_of, joint_without, sum_machine
 from rootfloor.texts import term_text
 
 
@@ -67,10 +67,7 @@ class Floors:
             inner = self._without(further, others, ({**factors, name: sign * factor}, constant), kind)
             fresh = {size: name}
             machines.append(joint_without(inner, machine.renamed(**fresh), name))
-        joint = machines[0]
-        for machine in machines[1:]:
-            joint = joint | machine
-        return joint
+        return any_of(machines)
 
     def _sides_of(self, floor):
         """The sides of a floor on which it is for some row."""

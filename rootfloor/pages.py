@@ -37,10 +37,8 @@ def read_book(text):
 def _with_line(definitions, line, number):
     """The definitions with that of the line with a number."""
     name, _, behind = line.partition("(")
-    inner, mark, words = behind.partition("): ")
+    inner, _, words = behind.partition("): ")
     variables = tuple(inner.split(", ")) if inner else ()
-    if not mark:
-        raise ParseError(number)
     try:
         return applied(definitions, ("define", name, variables, read_saying(words)), Book.MOST)
     except (RootError, Missing):

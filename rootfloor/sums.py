@@ -5,7 +5,7 @@ from rootfloor.machines import Machine
 from rootfloor.reckonings import EXACT, Reckoning
 from rootfloor.rooms import least_table
 from rootfloor.shadows import ranks_of
-from rootfloor.tables import BOTH, free_table, hopeless, joined, reread
+from rootfloor.tables import BOTH, EITHER, free_table, hopeless, joined, reread
 
 
 def sum_machine(field, factors, constant, *, far=None, kind=EXACT):
@@ -57,6 +57,15 @@ def joint_without(one, other, name):
     rows, answers = joined(_rows_over(one, names), one.answers(), _rows_over(other, names), other.answers(), BOTH)
     both = Machine(one.field, names, rows, answers)
     return both.some(name)
+
+
+def any_of(machines):
+    """The machine of the rows for which one of some machines is true; all have the same, perhaps many, names."""
+    found = machines[0]
+    for machine in machines[1:]:
+        rows, answers = joined(found.rows(), found.answers(), machine.rows(), machine.answers(), EITHER)
+        found = Machine(found.field, found.names(), rows, answers)
+    return found
 
 
 def _rows_over(machine, names):

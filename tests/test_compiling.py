@@ -150,6 +150,14 @@ class FloorTest(Case):
             for text in ("floor((1+r)/2, x - 2*y) < z", "floor(r, x + y) = z", "floor((1+r)/2, x + y - z) < 2"):
                 self.check(root, text, most=5, rows=25, least=False)
 
+    def test_many_floors_and_names(self):
+        # More values and names than a machine can have are told side by side on the way.
+        for text in (
+            "floor(1/2, x - y) + floor(1/2, y - z) + x + y < z", "floor(r, x) + floor(r, y) + floor(r, z) = x + y + z",
+            "leaves(floor(-r, x) + floor(r, y - 2) + x + y, 2, 1)", "floor((1+r)/2, x - y) + floor(1, y - x) + x + z = y",
+        ):
+            self.check(5, text, most=4, rows=20, least=False)
+
     def test_floor_machine(self):
         for root in ROOTS:
             random = seeded(f"machines {root}")
