@@ -121,7 +121,7 @@ class FloorTest(Case):
             for text in (
                 "floor(r, -x + 5) = -y", "floor((1+r)/2, -2*x + 7) + y = 3", "floor((1+r)/2, x - y) < 3",
                 "2*floor(r/2, x - y + 3) = x - 4", "leaves(floor(r, -x + 3), 4, 1)", "floor(-r, x - y) < 3*y",
-                "floor(r, 9) = x", "floor(r, -9) + x = 0", "floor(3/2, x - y) = 1",
+                "floor(r, 9) = x", "floor(r, -9) + x = 0", "floor(r, 2*x) = y", "floor(r/2, -x) + y = 0", "floor(-r, 3*x) + 20 < y", "floor(3/2, x - y) = 1",
             ):
                 self.check(root, text, most=8, rows=25, least=root != 6)
 
