@@ -56,8 +56,8 @@ def meanings(definitions, numbers):
     """For each name the number of its meaning; numbers is a dict of the meanings that have a number already."""
     found = {}
     for name, variables, saying in definitions:
-        # No name of a definition has such a form, so a use is unlike what it stands for.
-        text = saying_text(with_names(saying, {used: f"#{found[used]}" for used in used_names(saying)}))
+        # A use of a meaning is written with its number, so it is unlike the saying that it stands for.
+        text = saying_text(with_names(saying, {used: str(found[used]) for used in used_names(saying)}))
         found[name] = numbers.setdefault((variables, text), len(numbers))
     return found
 
