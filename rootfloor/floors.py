@@ -2,23 +2,22 @@
 
 from rootfloor.machines import MOST_NAMES
 from rootfloor.reckonings import EXACT, MORE
-from rootfloor.sayings import free_variables, term_variables
+from rootfloor.sayings import free_variables
 from rootfloor.sizes import sign_of, size_machine
 from rootfloor.sums import any_of, joint_without, sum_machine
 from rootfloor.texts import term_text
 
 
 class Floors:
-    """The machines of comparisons in one field; the machines of their floors are made once.
+    """The machines of comparisons in one field; the machines of the sizes of their floors are made once.
 
-    A value can be on both sides of 0. A side of it is its sign there, a machine of its sizes there for all rows of its
-    variables, and the name of the sizes in this machine.
+    A total is a dict of factors by names, a list of pairs of a factor and a floor, and a constant.
     """
 
     def __init__(self, field):
         self._field = field
         self._sizes = {}
-        self._sides = {}
+        self._zero = sum_machine(field, {"x": 1}, 0)
 
     def compared(self, part):
         """The machine of a saying that compares terms, with its free variables as names."""
@@ -44,62 +43,79 @@ class Floors:
 
     def _judged(self, names, total, kind):
         """The machine of the rows for which a total is as a kind of reckonings asks for."""
-        factors, floors, constant = total
-        values = [(factor, self._sides_of(floor)) for factor, floor in floors]
-        hidden = unused_names(names)
-        if len(factors) > 1 and len(factors) + len(values) > MOST_NAMES:
-            # All names stand in one table, so some of them are told as one value.
-            size = hidden[0]
-            machines = [(sign, sum_machine(self._field, {**factors, size: -sign}, 0)) for sign in (1, -1)]
-            values = [(1, [(sign, machine, size) for sign, machine in machines]), *values]
-            factors = {}
-        return self._without(hidden, values, (factors, constant), kind).widened(*names)
+        return self._solved(names, total, kind, None).widened(*names)
 
-    def _without(self, hidden, values, rest, kind):
-        """The machine of a sum of values and a rest, whatever the values are; hidden are names for their sizes."""
-        factors, constant = rest
-        if not values:
-            return sum_machine(self._field, factors, constant, kind=kind)
-        (factor, sides), *others = values
-        name, *further = hidden
+    def _solved(self, names, total, kind, outer):
+        """The machine of a total, joint with an outer machine without one of its names, if there is one.
+
+        Each floor has a name for its size at first. These names are left out from the outermost floors on.
+        """
+        factors, floors, constant = _lightened(names, total)
+        taken = names if outer is None else [*names, *outer[0].names()]
+        sizes = unused_names(taken)[:len(floors)]
+        choices = [()]
+        for _, floor in floors:
+            choices = [(*before, turn) for before in choices for turn in _turns(self._field, floor)]
         machines = []
-        for sign, machine, size in sides:
-            inner = self._without(further, others, ({**factors, name: sign * factor}, constant), kind)
-            fresh = {size: name}
-            machines.append(joint_without(inner, machine.renamed(**fresh), name))
+        for turns in choices:
+            counts = dict(factors)
+            for size, turn, (factor, floor) in zip(sizes, turns, floors):
+                counts[size] = turn * sign_of(self._field, floor[1]) * factor
+            machine = sum_machine(self._field, counts, constant, kind=kind)
+            if outer is not None:
+                machine = joint_without(outer[0], machine, outer[1])
+            for size, turn, (factor, floor) in zip(sizes, turns, floors):
+                machine = self._left_out(names, machine, size, floor, turn)
+            machines.append(machine)
         return any_of(machines)
 
-    def _sides_of(self, floor):
-        """The sides of a floor on which it is for some row."""
-        text = _floor_text(floor)
-        if text not in self._sides:
-            self._sides[text] = self._made_sides(floor)
-        return self._sides[text]
-
-    def _made_sides(self, floor):
-        _, slope, term = floor
-        items, constant = term
-        names = term_variables(term)
-        number, size = unused_names(names)[:2]
-        sign = sign_of(self._field, slope)
-        if constant == 0 and len(items) == 1 and items[0][0] == 1 and isinstance(items[0][1], str):
-            return [(sign, self.size(slope).renamed(x=names[0], y=size), size)]
-        i, j, k = slope
-        zero = sum_machine(self._field, {"x": 1}, 0)
+    def _left_out(self, names, machine, size, floor, turn):
+        """A machine without the size of a floor, where its term is a number, or with the turn -1 less than 0."""
+        _, (i, j, k), term = floor
+        sizes = self.size((turn * i, turn * j, k))
+        if _is_variable(term):
+            return joint_without(machine, sizes.renamed(x=term[0][0][1], y=size), size)
+        if turn < 0:
+            sizes = sizes - self._zero
+        # The number is the size of the term.
+        number = unused_names([*names, *machine.names()])[0]
+        inner = joint_without(machine, sizes.renamed(x=number, y=size), size)
         factors, floors, constant = _gathered(self._field, [(1, term)], 0)
-        found = []
-        # The term is a number or the negative of one; 0 belongs to the first ones.
-        for turn, sizes in ((1, self.size(slope)), (-1, self.size((-i, -j, k)) - zero)):
-            told = self._judged([*names, number], ({**factors, number: -turn}, floors, constant), EXACT)
-            machine = joint_without(told, sizes.renamed(x=number, y=size), number)
-            if machine:
-                found.append((turn * sign, machine, size))
-        return found
+        return self._solved(names, ({**factors, number: -turn}, floors, constant), EXACT, (inner, number))
 
 
 def unused_names(names):
     """Variables that are none of the names: more than a saying has values."""
-    return [letter for letter in "abcdefghijklmnop" if letter not in names]
+    return [letter for letter in "abcdefghijklmnopqstuvw" if letter not in names]
+
+
+def _lightened(names, total):
+    """A total with the same value, with not too many names of its own."""
+    factors, floors, constant = total
+    items = [(factors[name], name) for name in names if name in factors]
+    if len(items) < 2 or len(factors) + len(floors) <= MOST_NAMES:
+        return total
+    # What the variables count is told as one floor.
+    rest = {name: factors[name] for name in factors if name not in names}
+    return rest, [*floors, (1, ("floor", (1, 0, 1), (tuple(items), 0)))], constant
+
+
+def _turns(field, floor):
+    """The signs that the term of a floor can have; 0 is among the numbers."""
+    return (1,) if _is_number(field, floor[2]) else (1, -1)
+
+
+def _is_number(field, term):
+    """Whether a term is plainly never less than 0."""
+    items, constant = term
+    signs = [factor if isinstance(thing, str) else factor * sign_of(field, thing[1]) for factor, thing in items]
+    inner = [thing[2] for _, thing in items if not isinstance(thing, str)]
+    return constant >= 0 and all([sign >= 0 for sign in signs]) and all([_is_number(field, part) for part in inner])
+
+
+def _is_variable(term):
+    items, constant = term
+    return constant == 0 and len(items) == 1 and items[0][0] == 1 and isinstance(items[0][1], str)
 
 
 def _floor_text(floor):
