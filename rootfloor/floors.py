@@ -2,7 +2,7 @@
 
 from rootfloor.machines import MOST_NAMES
 from rootfloor.reckonings import EXACT, MORE
-from rootfloor.sayings import free_variables
+from rootfloor.sayings import free_variables, term_variables
 from rootfloor.sizes import sign_of, size_machine
 from rootfloor.sums import any_of, joint_without, sum_machine
 from rootfloor.texts import term_text
@@ -17,6 +17,7 @@ class Floors:
     def __init__(self, field):
         self._field = field
         self._sizes = {}
+        self._made = {}
         self._zero = sum_machine(field, {"x": 1}, 0)
 
     def compared(self, part):
@@ -48,40 +49,80 @@ class Floors:
     def _solved(self, names, total, kind, outer):
         """The machine of a total, joint with an outer machine without one of its names, if there is one.
 
-        Each floor has a name for its size at first. These names are left out from the outermost floors on.
+        Each floor has a name for its size at first. These names are left out one after the other.
         """
         factors, floors, constant = _lightened(names, total)
         taken = names if outer is None else [*names, *outer[0].names()]
         sizes = unused_names(taken)[:len(floors)]
         choices = [()]
         for _, floor in floors:
-            choices = [(*before, turn) for before in choices for turn in _turns(self._field, floor)]
+            inner = term_variables(floor[2])
+            is_alone = len(floors) == 1 and not any([name in factors for name in inner])
+            is_small = len(inner) < 2 and not is_alone
+            choices = [(*before, side) for before in choices for side in self._sides(floor, is_small)]
         machines = []
-        for turns in choices:
+        for sides in choices:
             counts = dict(factors)
-            for size, turn, (factor, floor) in zip(sizes, turns, floors):
+            for size, (turn, _), (factor, floor) in zip(sizes, sides, floors):
                 counts[size] = turn * sign_of(self._field, floor[1]) * factor
             machine = sum_machine(self._field, counts, constant, kind=kind)
             if outer is not None:
                 machine = joint_without(outer[0], machine, outer[1])
-            for size, turn, (factor, floor) in zip(sizes, turns, floors):
-                machine = self._left_out(names, machine, size, floor, turn)
+            for size, side, (_, floor) in zip(sizes, sides, floors):
+                machine = self._left_out(names, machine, size, floor, side)
             machines.append(machine)
         return any_of(machines)
 
-    def _left_out(self, names, machine, size, floor, turn):
-        """A machine without the size of a floor, where its term is a number, or with the turn -1 less than 0."""
-        _, (i, j, k), term = floor
-        sizes = self.size((turn * i, turn * j, k))
+    def _sides(self, floor, is_small):
+        """The signs that the term of a floor can have, where 0 is among the numbers, each with a machine or None.
+
+        The machine of the sizes of a floor is made at once if it is small and not alone: fewer names stand side by
+        side then. Otherwise it is better to know first what the sizes must be.
+        """
+        turns = (1,) if _is_number(self._field, floor[2]) else (1, -1)
+        if not is_small:
+            return [(turn, None) for turn in turns]
+        text = _floor_text(floor)
+        if text not in self._made:
+            made = [(turn, self._sizes_of(floor, turn)) for turn in turns]
+            self._made[text] = [(turn, machine) for turn, machine in made if machine]
+        return self._made[text]
+
+    def _sizes_of(self, floor, turn):
+        """The machine of the sizes of a floor whose term has one variable at most."""
+        term = floor[2]
+        names = term_variables(term)
+        size, number = unused_names(names)[:2]
         if _is_variable(term):
-            return joint_without(machine, sizes.renamed(x=term[0][0][1], y=size), size)
+            return self.size(floor[1]).renamed(x=names[0], y=size)
+        sizes = self._side(floor, turn, number, size)
+        return self._solved([size, *names], self._turned(term, turn, number), EXACT, (sizes, number))
+
+    def _left_out(self, names, machine, size, floor, side):
+        """A machine without the size of a floor on one of its sides."""
+        turn, made = side
+        term = floor[2]
+        if made is not None:
+            fresh = {unused_names(term_variables(term))[0]: size}
+            return joint_without(machine, made.renamed(**fresh), size)
+        if _is_variable(term):
+            return joint_without(machine, self.size(floor[1]).renamed(x=term[0][0][1], y=size), size)
+        number = unused_names([*names, *machine.names()])[0]
+        inner = joint_without(machine, self._side(floor, turn, number, size), size)
+        return self._solved(names, self._turned(term, turn, number), EXACT, (inner, number))
+
+    def _side(self, floor, turn, number, size):
+        """The machine of the sizes of a floor by the number that its term is, or whose negative it is."""
+        i, j, k = floor[1]
+        sizes = self.size((turn * i, turn * j, k))
         if turn < 0:
             sizes = sizes - self._zero
-        # The number is the size of the term.
-        number = unused_names([*names, *machine.names()])[0]
-        inner = joint_without(machine, sizes.renamed(x=number, y=size), size)
+        return sizes.renamed(x=number, y=size)
+
+    def _turned(self, term, turn, number):
+        """The total that is 0 if a term is a number or its negative."""
         factors, floors, constant = _gathered(self._field, [(1, term)], 0)
-        return self._solved(names, ({**factors, number: -turn}, floors, constant), EXACT, (inner, number))
+        return {**factors, number: -turn}, floors, constant
 
 
 def unused_names(names):
@@ -98,11 +139,6 @@ def _lightened(names, total):
     # What the variables count is told as one floor.
     rest = {name: factors[name] for name in factors if name not in names}
     return rest, [*floors, (1, ("floor", (1, 0, 1), (tuple(items), 0)))], constant
-
-
-def _turns(field, floor):
-    """The signs that the term of a floor can have; 0 is among the numbers."""
-    return (1,) if _is_number(field, floor[2]) else (1, -1)
 
 
 def _is_number(field, term):
