@@ -18,8 +18,8 @@ class Book:
         self._check_limit(limit)
         self._limit = limit
         # The lists of definitions before each step, and behind each step that was taken back.
-        self._before = []
-        self._behind = []
+        self._done = []
+        self._undone = []
         self._busy = False
         self._machines = {}
         self._computed = 0
@@ -60,27 +60,27 @@ class Book:
                 definitions = applied(definitions, command, self._limit)
         finally:
             self._busy = False
-        self._before.append(self._definitions)
-        self._behind = []
+        self._done.append(self._definitions)
+        self._undone = []
         self._turn_to(definitions)
 
     def undo(self):
         """Takes the last step back."""
-        if not self._before:
+        if not self._done:
             raise NothingLeft()
-        self._behind.append(self._definitions)
-        self._turn_to(self._before.pop())
+        self._undone.append(self._definitions)
+        self._turn_to(self._done.pop())
 
     def redo(self):
         """Makes the step again that was taken back last."""
-        if not self._behind:
+        if not self._undone:
             raise NothingLeft()
-        self._before.append(self._definitions)
-        self._turn_to(self._behind.pop())
+        self._done.append(self._definitions)
+        self._turn_to(self._undone.pop())
 
     def history(self):
         """The pair of the numbers of steps that can be undone and redone."""
-        return len(self._before), len(self._behind)
+        return len(self._done), len(self._undone)
 
     def names(self):
         """The list of the names, in order."""
@@ -128,8 +128,8 @@ class Book:
         other = Book(self._field)
         other._limit = self._limit
         other._definitions = self._definitions
-        other._before = list(self._before)
-        other._behind = list(self._behind)
+        other._done = list(self._done)
+        other._undone = list(self._undone)
         other._machines = {name: self._machines[name] for name in self._machines}
         other._computed = self._computed
         return other

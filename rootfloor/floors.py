@@ -17,7 +17,7 @@ class Floors:
     def __init__(self, field):
         self._field = field
         self._sizes = {}
-        self._made = {}
+        self._small = {}
         self._zero = sum_machine(field, {"x": 1}, 0)
 
     def compared(self, part):
@@ -83,10 +83,10 @@ class Floors:
         if not is_small:
             return [(turn, None) for turn in turns]
         text = _floor_text(floor)
-        if text not in self._made:
+        if text not in self._small:
             made = [(turn, self._sizes_of(floor, turn)) for turn in turns]
-            self._made[text] = [(turn, machine) for turn, machine in made if machine]
-        return self._made[text]
+            self._small[text] = [(turn, machine) for turn, machine in made if machine]
+        return self._small[text]
 
     def _sizes_of(self, floor, turn):
         """The machine of the sizes of a floor whose term has one variable at most."""
